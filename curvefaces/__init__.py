@@ -1,0 +1,1 @@
+"""Curvefaces: corners on a bent curve, and the faces of what they span."""

@@ -1,0 +1,64 @@
+"""The panes of a curve: listed, found from faces, gone through, counted."""
+
+from curvefaces.curves import MOST_DEEP, is_face, is_pane, need_curve, need_lot
+from curvefaces.errors import NoCorner, NoFace, NoNumber, NoPane
+from curvefaces.helpers import choices, is_whole, ways
+
+MOST_MANY = 1000000000
+
+
+def panes(curve):
+    """All panes of the curve, a rising list."""
+    need_curve(curve)
+    many, deep = curve
+    return [lot for lot in choices(many, deep) if is_pane(lot, curve)]
+
+
+def has_all(pane, lot):
+    """Whether the pane has all corners of the lot."""
+    return all(corner in pane for corner in lot)
+
+
+def panes_at(curve, lot):
+    """All panes that have all corners of the lot, a rising list."""
+    need_lot(curve, lot)
+    return [pane for pane in panes(curve) if has_all(pane, lot)]
+
+
+def first_pane(curve, face):
+    """The first pane that has all corners of the face."""
+    if not is_face(face, curve):
+        raise NoFace("a face is a lot all of whose corners some pane of the curve has")
+    return panes_at(curve, face)[0]
+
+
+def beyond(curve, pane, corner):
+    """The other pane that has all corners of the pane but this one."""
+    if not is_pane(pane, curve):
+        raise NoPane("a pane has deep corners, even many between any two that are out of it")
+    # True and False would pass for the corners 1 and 0.
+    if not is_whole(corner) or corner not in pane:
+        raise NoCorner("the corner must be one of the pane")
+    rest = tuple(one for one in pane if one != corner)
+    return [other for other in panes_at(curve, rest) if other != pane][0]
+
+
+def need_many_deep(many, deep):
+    """Refuse numbers of corners and depths that panes and faces are not counted for."""
+    if not is_whole(many) or not is_whole(deep):
+        raise NoNumber("many and deep are whole numbers")
+    if not 1 <= deep <= MOST_DEEP or not deep < many <= MOST_MANY:
+        raise NoNumber("deep is from 1 to 6, many above deep and at most 10 ** 9")
+
+
+def panes_many(many, deep):
+    """How many panes there are with so many corners at this depth."""
+    need_many_deep(many, deep)
+    pairs = deep // 2
+    # A pane falls into pairs of neighbours, but for its blocks at the two ends of
+    # the curve, which may be odd: just one of them, either one, where deep is odd;
+    # both or none where it is even. Once an odd end's corner is taken off, each
+    # pair counts as one thing among the corners that are left.
+    if deep % 2 == 1:
+        return 2 * ways(pairs, many - 1 - pairs)
+    return ways(pairs, many - pairs) + ways(pairs - 1, many - 2 - (pairs - 1))
