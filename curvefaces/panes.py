@@ -2,7 +2,7 @@
 
 from curvefaces.curves import MOST_DEEP, is_face, is_pane, need_curve, need_lot
 from curvefaces.errors import NoCorner, NoFace, NoNumber, NoPane
-from curvefaces.helpers import choices, is_whole, ways
+from curvefaces.helpers import choices, high_many, is_whole, low_many
 
 MOST_MANY = 1000000000
 
@@ -32,10 +32,15 @@ def first_pane(curve, face):
     return panes_at(curve, face)[0]
 
 
-def beyond(curve, pane, corner):
-    """The other pane that has all corners of the pane but this one."""
+def need_pane(curve, pane):
+    """Refuse what is no curve, then what is no pane of it."""
     if not is_pane(pane, curve):
         raise NoPane("a pane has deep corners, even many between any two that are out of it")
+
+
+def beyond(curve, pane, corner):
+    """The other pane that has all corners of the pane but this one."""
+    need_pane(curve, pane)
     # True and False would pass for the corners 1 and 0.
     if not is_whole(corner) or corner not in pane:
         raise NoCorner("the corner must be one of the pane")
@@ -54,11 +59,4 @@ def need_many_deep(many, deep):
 def panes_many(many, deep):
     """How many panes there are with so many corners at this depth."""
     need_many_deep(many, deep)
-    pairs = deep // 2
-    # A pane falls into pairs of neighbours, but for its blocks at the two ends of
-    # the curve, which may be odd: just one of them, either one, where deep is odd;
-    # both or none where it is even. Once an odd end's corner is taken off, each
-    # pair counts as one thing among the corners that are left.
-    if deep % 2 == 1:
-        return 2 * ways(pairs, many - 1 - pairs)
-    return ways(pairs, many - pairs) + ways(pairs - 1, many - 2 - (pairs - 1))
+    return low_many(many, deep) + high_many(many, deep)

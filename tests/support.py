@@ -6,6 +6,15 @@ GREAT = 10 ** 29 + 7
 
 CURVES = [(many, deep) for deep in range(1, 7) for many in range(deep + 1, 10)]
 
+# Those of [61], and those that are curves but too great for it.
+SMALL_CURVES = [(many, deep) for many, deep in CURVES if many <= 7 and deep <= 4]
+GREAT_CURVES = [curve for curve in CURVES if curve not in SMALL_CURVES]
+
+# Great numbers of corners, up to the bound of [23].
+MANIES = [10, 11, 12, 50, 1000, 10 ** 6 + 1, 999999937, 10 ** 9 - 1, 10 ** 9]
+
+NO_NUMBERS = [None, True, False, "", "6", "3", [], [6], (), (6,), (6, 3), {}, {6: 3}]
+
 
 def nested(kind, inner, times):
     thing = inner
@@ -61,6 +70,37 @@ def plain_faces(curve):
     return {lot for pane in plain_panes(curve) for size in range(curve[1] + 1) for lot in combinations(pane, size)}
 
 
+def plain_cross(one, other, deep):
+    """Whether two cells cross by the very words of [61]."""
+    for row in combinations(sorted(set(one + other)), deep + 2):
+        for first, second in [(one, other), (other, one)]:
+            if set(row[::2]) <= set(first) and set(row[1::2]) <= set(second):
+                return True
+    return False
+
+
+def plain_is_covering(cells, curve, panes):
+    """Whether cells that do not cross are a cover by the very words of [62]."""
+    had = [lot for cell in cells for lot in combinations(cell, curve[1])]
+    return bool(cells) and all(had.count(lot) == (1 if lot in panes else 2) for lot in had)
+
+
+def plain_covers(curve):
+    """All covers, found among all sets of cells no two of which cross: a rising list."""
+    many, deep = curve
+    panes = set(plain_panes(curve))
+    found = []
+    left = [((), list(combinations(range(many), deep + 1)))]
+    while left:
+        chosen, others = left.pop()
+        if plain_is_covering(chosen, curve, panes):
+            found.append(chosen)
+        for at, cell in enumerate(others):
+            fitting = [other for other in others[at + 1:] if not plain_cross(cell, other, deep)]
+            left.append((chosen + (cell,), fitting))
+    return sorted(found)
+
+
 def assert_refused(case, error, function, *arguments):
     """The very class is raised, not one above or below it."""
     with case.subTest(function=function.__name__, arguments=arguments):
@@ -70,6 +110,39 @@ def assert_refused(case, error, function, *arguments):
             case.assertIs(type(raised), error, repr(raised))
         else:
             case.fail(f"told {told!r} where {error.__name__} is due")
+
+
+def assert_many_deep_refused(case, error, function):
+    """Many and deep beyond their bounds, and what are no whole numbers, are refused; the bounds are not."""
+    for deep in range(1, 7):
+        function(deep + 1, deep)
+        function(10 ** 9, deep)
+        for many in [deep, deep - 1, 0, -1, -deep - 1, 10 ** 9 + 1, GREAT, -GREAT]:
+            assert_refused(case, error, function, many, deep)
+    for deep in [0, -1, 7, 8, GREAT, -GREAT]:
+        for many in [1, 2, 8, 9, 10 ** 9, GREAT]:
+            assert_refused(case, error, function, many, deep)
+    for thing in NO_NUMBERS:
+        assert_refused(case, error, function, thing, 1)
+        assert_refused(case, error, function, thing, 3)
+        assert_refused(case, error, function, 6, thing)
+        for other in NO_NUMBERS:
+            assert_refused(case, error, function, thing, other)
+
+
+def assert_own_list(case, function, *arguments):
+    """A told list that is changed is told anew as it was, and another one that is held stays."""
+    told = function(*arguments)
+    held = function(*arguments)
+    case.assertIs(list, type(told))
+    case.assertIsNot(told, held)
+    due = list(held)
+    told.append("more")
+    told.reverse()
+    assert_told(case, due, function(*arguments))
+    told.clear()
+    assert_told(case, due, function(*arguments))
+    assert_told(case, due, held)
 
 
 def assert_told(case, expected, told):

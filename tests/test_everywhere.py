@@ -7,9 +7,13 @@ import inspect
 import os
 import unittest
 
+from curvefaces.counts import counts, faces, growth
+from curvefaces.covers import all_covers, do_cross, highest, is_cover, lowest
 from curvefaces.curves import blocks, is_curve, is_face, is_lot, is_pane, odd_inner
 from curvefaces.errors import CurveError, NoCorner, NoCurve, NoFace, NoLot, NoPane
+from curvefaces.most import first_above, missing, reach
 from curvefaces.panes import beyond, first_pane, panes, panes_at, panes_many
+from curvefaces.sides import high_panes, is_low, low_panes, sides_many
 from curvefaces.texts import read, show
 from tests.support import NO_CURVES, ODD_THINGS, assert_refused, assert_told
 
@@ -23,6 +27,15 @@ INTERFACE = {
         "panes": ["curve"], "first_pane": ["curve", "face"], "panes_at": ["curve", "lot"],
         "beyond": ["curve", "pane", "corner"], "panes_many": ["many", "deep"],
     },
+    "curvefaces.counts": {"faces": ["curve", "size"], "growth": ["many", "deep"], "counts": ["many", "deep"]},
+    "curvefaces.most": {"missing": ["curve"], "reach": ["curve"], "first_above": ["numbers"]},
+    "curvefaces.sides": {
+        "is_low": ["curve", "pane"], "low_panes": ["curve"], "high_panes": ["curve"], "sides_many": ["many", "deep"],
+    },
+    "curvefaces.covers": {
+        "do_cross": ["curve", "one", "other"], "is_cover": ["thing", "curve"], "all_covers": ["curve"],
+        "lowest": ["curve"], "highest": ["curve"],
+    },
 }
 
 CALLS = [
@@ -30,9 +43,18 @@ CALLS = [
     (blocks, [(6, 3), (0, 2, 3)]), (odd_inner, [(6, 3), (0, 2, 3)]), (show, [(6, 3), ((0,), (1,))]), (read, ["6 3 : 0"]),
     (panes, [(6, 3)]), (first_pane, [(6, 3), (0, 1)]), (panes_at, [(6, 3), (0, 1)]),
     (beyond, [(6, 3), (0, 1, 2), 0]), (panes_many, [6, 3]),
+    (faces, [(6, 3), 2]), (growth, [6, 3]), (counts, [6, 3]),
+    (missing, [(6, 3)]), (reach, [(6, 3)]), (first_above, [(1, 6, 13, 8)]),
+    (is_low, [(6, 3), (0, 1, 2)]), (low_panes, [(6, 3)]), (high_panes, [(6, 3)]), (sides_many, [6, 3]),
+    (do_cross, [(5, 2), (0, 1, 3), (0, 2, 4)]), (is_cover, [((0, 1, 2), (0, 2, 3)), (4, 2)]), (all_covers, [(5, 2)]),
+    (lowest, [(5, 2)]), (highest, [(5, 2)]),
 ]
 
-LISTS = [(blocks, [(6, 3), (0, 2, 3)]), (panes, [(6, 3)]), (panes_at, [(6, 3), (0,)]), (panes_at, [(6, 3), (1, 3)])]
+LISTS = [
+    (blocks, [(6, 3), (0, 2, 3)]), (panes, [(6, 3)]), (panes_at, [(6, 3), (0,)]), (panes_at, [(6, 3), (1, 3)]),
+    (faces, [(6, 3), 0]), (faces, [(6, 3), 2]), (faces, [(6, 3), 3]), (missing, [(6, 3)]), (low_panes, [(6, 3)]),
+    (high_panes, [(6, 3)]), (all_covers, [(5, 2)]), (all_covers, [(3, 2)]),
+]
 
 
 class InterfaceTest(unittest.TestCase):
@@ -82,6 +104,11 @@ class NothingIsChangedTest(unittest.TestCase):
         panes((6, 3)).clear()
         panes_at((6, 3), (0, 1)).clear()
         blocks((6, 3), (0, 2, 3)).clear()
+        faces((6, 3), 2).clear()
+        missing((6, 3)).clear()
+        low_panes((6, 3)).clear()
+        high_panes((6, 3)).clear()
+        all_covers((5, 2)).clear()
         self.assertEqual(due, [repr(function(*arguments)) for function, arguments in CALLS])
 
     def test_two_told_lists_held_at_once_have_nothing_in_common(self):
