@@ -1,8 +1,8 @@
 """Covers of a curve: whether cells cross, whether cells are a cover, all covers, the lowest and the highest."""
 
-from curvefaces.curves import is_lot, need_curve
+from curvefaces.curves import need_curve
 from curvefaces.errors import NoCell, TooMany
-from curvefaces.helpers import choices, high_lots, is_rising, low_lots, odd_blocks, without_each
+from curvefaces.helpers import choices, high_lots, is_lot_of, is_rising, low_lots, odd_blocks, without_each
 
 MOST_COVERED = 7
 MOST_DEEP_COVERED = 4
@@ -18,7 +18,7 @@ def need_covered(curve):
 
 def is_cell(thing, curve):
     """Whether the thing, of whatever kind, is a cell of the curve."""
-    return is_lot(thing, curve) and len(thing) == curve[1] + 1
+    return is_lot_of(thing, curve[0]) and len(thing) == curve[1] + 1
 
 
 def need_cell(curve, cell):

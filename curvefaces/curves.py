@@ -1,7 +1,7 @@
 """Curves, their lots, panes and faces, and the blocks of a lot."""
 
 from curvefaces.errors import NoCurve, NoLot
-from curvefaces.helpers import is_rising, is_whole
+from curvefaces.helpers import has_pane, is_lot_of, is_whole, odd_blocks
 
 MOST_DEEP = 6
 MOST_CORNERS = 9
@@ -23,18 +23,10 @@ def need_curve(curve):
         raise NoCurve("a curve is a tuple (many, deep), deep 1 to 6, many above deep and at most 9")
 
 
-def is_corner(thing, many):
-    """Whether the thing is one of so many corners."""
-    return is_whole(thing) and 0 <= thing < many
-
-
 def is_lot(thing, curve):
     """Whether the thing, of whatever kind, is a lot of the curve."""
     need_curve(curve)
-    if not isinstance(thing, tuple):
-        return False
-    # All must be numbers before they are compared with one another.
-    return all(is_corner(one, curve[0]) for one in thing) and is_rising(thing)
+    return is_lot_of(thing, curve[0])
 
 
 def need_lot(curve, lot):
@@ -45,18 +37,13 @@ def need_lot(curve, lot):
 
 def is_pane(thing, curve):
     """Whether the thing, of whatever kind, is a pane of the curve."""
-    if not is_lot(thing, curve) or len(thing) != curve[1]:
-        return False
     # Only an inner block stands between two corners that are out.
-    return odd_inner(curve, thing) == 0
+    return is_lot(thing, curve) and len(thing) == curve[1] and odd_blocks(curve[0], thing) == 0
 
 
 def is_face(thing, curve):
     """Whether the thing, of whatever kind, is a face of the curve."""
-    if not is_lot(thing, curve):
-        return False
-    # Each odd inner block needs a corner more to come to a pane.
-    return odd_inner(curve, thing) <= curve[1] - len(thing)
+    return is_lot(thing, curve) and has_pane(curve[0], curve[1], thing)
 
 
 def blocks(curve, lot):
@@ -71,12 +58,7 @@ def blocks(curve, lot):
     return found
 
 
-def is_inner(block, many):
-    """Whether the block has neither the first one of so many corners nor the last one."""
-    return block[0] != 0 and block[-1] != many - 1
-
-
 def odd_inner(curve, lot):
     """How many inner blocks of the lot have an odd number of corners."""
-    inner = [block for block in blocks(curve, lot) if is_inner(block, curve[0])]
-    return len([block for block in inner if len(block) % 2 == 1])
+    need_lot(curve, lot)
+    return odd_blocks(curve[0], lot)

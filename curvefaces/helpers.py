@@ -11,6 +11,19 @@ def is_rising(things):
     return all(one < other for one, other in zip(things, things[1:]))
 
 
+def is_lot_of(thing, many):
+    """Whether the thing, of whatever kind, is a lot of so many corners."""
+    if not isinstance(thing, tuple):
+        return False
+    least = 0
+    for one in thing:
+        # What is no number must not be compared with one.
+        if not is_whole(one) or not least <= one < many:
+            return False
+        least = one + 1
+    return True
+
+
 def next_number(some):
     """The least number that may stand behind a rising tuple of numbers from 0 on."""
     return some[-1] + 1 if some else 0

@@ -2,16 +2,21 @@
 
 from curvefaces.curves import MOST_DEEP, is_face, is_pane, need_curve, need_lot
 from curvefaces.errors import NoCorner, NoFace, NoNumber, NoPane
-from curvefaces.helpers import choices, high_many, is_whole, low_many
+from curvefaces.helpers import has_pane, high_lots, high_many, is_whole, low_lots, low_many, odd_blocks
 
 MOST_MANY = 1000000000
+
+
+def panes_of(many, deep):
+    """All panes, many and deep being known as right: a rising list."""
+    return sorted(low_lots(many, deep) + high_lots(many, deep))
 
 
 def panes(curve):
     """All panes of the curve, a rising list."""
     need_curve(curve)
     many, deep = curve
-    return [lot for lot in choices(many, deep) if is_pane(lot, curve)]
+    return panes_of(many, deep)
 
 
 def has_all(pane, lot):
@@ -19,17 +24,26 @@ def has_all(pane, lot):
     return all(corner in pane for corner in lot)
 
 
+def panes_around(curve, lot):
+    """All panes that have all corners of the lot, both being known as right: a rising list."""
+    many, deep = curve
+    # Most lots are no faces, and this is told without a look at the panes.
+    if not has_pane(many, deep, lot):
+        return []
+    return [pane for pane in panes_of(many, deep) if has_all(pane, lot)]
+
+
 def panes_at(curve, lot):
     """All panes that have all corners of the lot, a rising list."""
     need_lot(curve, lot)
-    return [pane for pane in panes(curve) if has_all(pane, lot)]
+    return panes_around(curve, lot)
 
 
 def first_pane(curve, face):
     """The first pane that has all corners of the face."""
     if not is_face(face, curve):
         raise NoFace("a face is a lot all of whose corners some pane of the curve has")
-    return panes_at(curve, face)[0]
+    return panes_around(curve, face)[0]
 
 
 def need_pane(curve, pane):
@@ -44,8 +58,10 @@ def beyond(curve, pane, corner):
     # True and False would pass for the corners 1 and 0.
     if not is_whole(corner) or corner not in pane:
         raise NoCorner("the corner must be one of the pane")
-    rest = tuple(one for one in pane if one != corner)
-    return [other for other in panes_at(curve, rest) if other != pane][0]
+    many = curve[0]
+    rest = [one for one in pane if one != corner]
+    others = [tuple(sorted(rest + [new])) for new in range(many) if new not in pane]
+    return [other for other in others if odd_blocks(many, other) == 0][0]
 
 
 def need_many_deep(many, deep):

@@ -1,8 +1,8 @@
 """A curve and lots of it, written as a text and read from it."""
 
-from curvefaces.curves import is_curve, is_lot, need_curve
+from curvefaces.curves import is_curve, need_curve
 from curvefaces.errors import NoLot, NoText
-from curvefaces.helpers import is_rising
+from curvefaces.helpers import is_lot_of, is_rising
 
 FIGURES = {"0": 0, "1": 1, "2": 2, "3": 3, "4": 4, "5": 5, "6": 6, "7": 7, "8": 8, "9": 9}
 MARK = ":"
@@ -11,11 +11,10 @@ LOT_OF_NONE = "-"
 
 def are_lots(thing, curve):
     """Whether the thing, of whatever kind, is a rising tuple of lots of the curve."""
-    need_curve(curve)
     if not isinstance(thing, tuple):
         return False
     # All must be lots before they are compared with one another.
-    return all(is_lot(one, curve) for one in thing) and is_rising(thing)
+    return all(is_lot_of(one, curve[0]) for one in thing) and is_rising(thing)
 
 
 def show_lot(lot):
@@ -25,6 +24,7 @@ def show_lot(lot):
 
 def show(curve, lots):
     """The text that the curve and the lots of it are written as."""
+    need_curve(curve)
     if not are_lots(lots, curve):
         raise NoLot("lots are a rising tuple of lots of the curve")
     words = [str(curve[0]), str(curve[1]), MARK] + [show_lot(lot) for lot in lots]
