@@ -2,7 +2,7 @@
 
 from curvefaces.curves import need_curve
 from curvefaces.errors import NoNumber
-from curvefaces.helpers import choices, has_pane, is_whole, ways
+from curvefaces.helpers import choices, has_pane, is_within, ways
 from curvefaces.panes import need_many_deep
 
 
@@ -15,7 +15,7 @@ def faces(curve, size):
     """All faces of the curve that have so many corners, a rising list."""
     need_curve(curve)
     many, deep = curve
-    if not is_whole(size) or not 0 <= size <= deep:
+    if not is_within(size, 0, deep):
         raise NoNumber("the size of a face is a whole number from 0 to deep")
     return faces_of(many, deep, size)
 

@@ -2,7 +2,7 @@
 
 from curvefaces.curves import need_curve
 from curvefaces.errors import NoCell, TooMany
-from curvefaces.helpers import choices, high_lots, is_lot_of, is_rising, low_lots, odd_blocks, without_each
+from curvefaces.helpers import choices, has_all, high_lots, is_choice, is_rising, low_lots, odd_blocks, without_each
 
 MOST_COVERED = 7
 MOST_DEEP_COVERED = 4
@@ -18,7 +18,7 @@ def need_covered(curve):
 
 def is_cell(thing, curve):
     """Whether the thing, of whatever kind, is a cell of the curve."""
-    return is_lot_of(thing, curve[0]) and len(thing) == curve[1] + 1
+    return is_choice(thing, curve[0], curve[1] + 1)
 
 
 def need_cell(curve, cell):
@@ -71,9 +71,8 @@ def times_due(lot, many):
     return 1 if odd_blocks(many, lot) == 0 else 2
 
 
-def is_cover(thing, curve):
-    """Whether the thing, of whatever kind, is a cover of the curve."""
-    need_covered(curve)
+def is_cover_of(curve, thing):
+    """Whether the thing, of whatever kind, is a cover of the curve, which is known as right."""
     if not isinstance(thing, tuple) or thing == ():
         return False
     # All must be cells before they are compared with one another.
@@ -82,6 +81,12 @@ def is_cover(thing, curve):
     many = curve[0]
     times = times_had(thing)
     return all(times[lot] == times_due(lot, many) for lot in times) and not does_any_cross(thing, many)
+
+
+def is_cover(thing, curve):
+    """Whether the thing, of whatever kind, is a cover of the curve."""
+    need_covered(curve)
+    return is_cover_of(curve, thing)
 
 
 def low_cells(knot):
@@ -94,34 +99,60 @@ def high_cells(knot):
     return without_each(knot)[-2::-2]
 
 
+def knots(curve):
+    """All knots of the curve, a rising list."""
+    many, deep = curve
+    return choices(many, deep + 2)
+
+
+def turns_up(curve):
+    """Of each knot of the curve the cells that go and those that come where a cover is turned up."""
+    return [(low_cells(knot), high_cells(knot)) for knot in knots(curve)]
+
+
 def exchanged(cover, going, coming):
     """The cover with some cells gone and others come, None where some that should go are not in it."""
-    if not all(cell in cover for cell in going):
+    if not has_all(cover, going):
         return None
     return tuple(sorted([cell for cell in cover if cell not in going] + coming))
 
 
-def higher_covers(cover, halves):
-    """All that the cover is turned up to at the knots whose low and high cells are told."""
-    turned = [exchanged(cover, low, high) for low, high in halves]
+def by_first_going(turns):
+    """The turns, listed by the first one of the cells that go: a dict."""
+    found = {}
+    for going, coming in turns:
+        found.setdefault(going[0], []).append((going, coming))
+    return found
+
+
+def turned_covers(cover, listed):
+    """All that the cover becomes by one of the turns, which are listed by the first cell that goes."""
+    # Turns that begin with a cell that the cover has not are not even tried.
+    turned = [exchanged(cover, going, coming) for cell in cover for going, coming in listed.get(cell, [])]
     return [other for other in turned if other is not None]
+
+
+def steps_from(start, turns):
+    """Of each cover that the first one becomes by such turns, by how few of them: a dict."""
+    listed = by_first_going(turns)
+    steps = {start: 0}
+    fresh = [start]
+    while fresh:
+        found = []
+        for cover in fresh:
+            for other in turned_covers(cover, listed):
+                if other not in steps:
+                    steps[other] = steps[cover] + 1
+                    found.append(other)
+        fresh = found
+    return steps
 
 
 def all_covers(curve):
     """All covers of the curve, a rising list."""
     # None but the lowest can't be turned down, so all are come to from it by turns up.
     start = lowest(curve)
-    many, deep = curve
-    halves = [(low_cells(knot), high_cells(knot)) for knot in choices(many, deep + 2)]
-    found = {start: True}
-    fresh = [start]
-    while fresh:
-        cover = fresh.pop()
-        for other in higher_covers(cover, halves):
-            if other not in found:
-                found[other] = True
-                fresh.append(other)
-    return sorted(list(found))
+    return sorted(list(steps_from(start, turns_up(curve))))
 
 
 def lowest(curve):

@@ -6,6 +6,11 @@ def is_whole(thing):
     return isinstance(thing, int) and not isinstance(thing, bool)
 
 
+def is_within(thing, least, most):
+    """Whether the thing, of whatever kind, is a whole number from least to most."""
+    return is_whole(thing) and least <= thing <= most
+
+
 def is_rising(things):
     """Whether each of the things is greater than the one ahead of it."""
     return all(one < other for one, other in zip(things, things[1:]))
@@ -22,6 +27,16 @@ def is_lot_of(thing, many):
             return False
         least = one + 1
     return True
+
+
+def is_choice(thing, many, size):
+    """Whether the thing, of whatever kind, is a lot of so many corners that has just size of them."""
+    return is_lot_of(thing, many) and len(thing) == size
+
+
+def has_all(things, some):
+    """Whether some are all among the things."""
+    return all(one in things for one in some)
 
 
 def next_number(some):

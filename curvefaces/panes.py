@@ -2,7 +2,7 @@
 
 from curvefaces.curves import MOST_DEEP, is_face, is_pane, need_curve, need_lot
 from curvefaces.errors import NoCorner, NoFace, NoNumber, NoPane
-from curvefaces.helpers import has_pane, high_lots, high_many, is_whole, low_lots, low_many, odd_blocks
+from curvefaces.helpers import has_all, has_pane, high_lots, high_many, is_whole, low_lots, low_many, odd_blocks
 
 MOST_MANY = 1000000000
 
@@ -17,11 +17,6 @@ def panes(curve):
     need_curve(curve)
     many, deep = curve
     return panes_of(many, deep)
-
-
-def has_all(pane, lot):
-    """Whether the pane has all corners of the lot."""
-    return all(corner in pane for corner in lot)
 
 
 def panes_around(curve, lot):

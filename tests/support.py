@@ -101,6 +101,46 @@ def plain_covers(curve):
     return sorted(found)
 
 
+COVERS = {curve: plain_covers(curve) for curve in SMALL_CURVES}
+
+
+def knots_of(curve):
+    """The knots of the curve by the words of [71]: all lots of deep and 2 corners."""
+    return list(combinations(range(curve[0]), curve[1] + 2))
+
+
+def plain_halves(knot):
+    """The low cells and the high ones by the very words of [71], each the last, third last, .. or another left out."""
+    low = []
+    high = []
+    for from_the_end in range(1, len(knot) + 1):
+        left = tuple(corner for corner in knot if corner != knot[-from_the_end])
+        (low if from_the_end in (1, 3, 5, 7) else high).append(left)
+    return tuple(sorted(low)), tuple(sorted(high))
+
+
+def plain_turned(cover, going, coming):
+    """The cover turned by the very words of [72], None where it can't be."""
+    if not set(going) <= set(cover):
+        return None
+    return tuple(sorted(set(cover) - set(going) | set(coming)))
+
+
+def otherwise(things, at, thing):
+    """The tuple with one thing otherwise at this place."""
+    return things[:at] + (thing,) + things[at + 1:]
+
+
+def lots_with_one_thing_otherwise(lot, many):
+    """What is no lot of so many corners, as one thing of the lot is of another kind, no corner, or out of order."""
+    for at, corner in enumerate(lot):
+        for thing in [str(corner), (corner,), [corner], {corner: corner}, None, True, False, "", -1, many, GREAT,
+                      -GREAT]:
+            yield otherwise(lot, at, thing)
+        for other in lot[:at] + lot[at + 1:]:
+            yield otherwise(lot, at, other)
+
+
 def assert_refused(case, error, function, *arguments):
     """The very class is raised, not one above or below it."""
     with case.subTest(function=function.__name__, arguments=arguments):

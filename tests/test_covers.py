@@ -6,10 +6,8 @@ from itertools import combinations
 from curvefaces.covers import all_covers, do_cross, highest, is_cover, lowest
 from curvefaces.errors import NoCell, NoCurve, TooMany
 from curvefaces.sides import high_panes, low_panes
-from tests.support import (GREAT, GREAT_CURVES, NO_CURVES, ODD_THINGS, SMALL_CURVES, all_lots, assert_own_list,
-                           assert_refused, assert_told, plain_covers, plain_cross)
-
-COVERS = {curve: plain_covers(curve) for curve in SMALL_CURVES}
+from tests.support import (COVERS, GREAT, GREAT_CURVES, NO_CURVES, ODD_THINGS, SMALL_CURVES, all_lots, assert_own_list,
+                           assert_refused, assert_told, plain_cross)
 
 
 def cells_of(curve):

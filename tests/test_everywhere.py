@@ -10,11 +10,15 @@ import unittest
 from curvefaces.counts import counts, faces, growth
 from curvefaces.covers import all_covers, do_cross, highest, is_cover, lowest
 from curvefaces.curves import blocks, is_curve, is_face, is_lot, is_pane, odd_inner
+from curvefaces.desk import Desk
 from curvefaces.errors import CurveError, NoCorner, NoCurve, NoFace, NoLot, NoPane
 from curvefaces.most import first_above, missing, reach
+from curvefaces.moved import at_corner, does_keep, keepers, moved_on, named, turned_about
 from curvefaces.panes import beyond, first_pane, panes, panes_at, panes_many
 from curvefaces.sides import high_panes, is_low, low_panes, sides_many
 from curvefaces.texts import read, show
+from curvefaces.triangles import cut_at, cut_by, cuts_many, ears, is_cut, number_of
+from curvefaces.turns import downs, halves, steps_between, turned_down, turned_up, ups, way_up
 from tests.support import NO_CURVES, ODD_THINGS, assert_refused, assert_told
 
 INTERFACE = {
@@ -36,7 +40,30 @@ INTERFACE = {
         "do_cross": ["curve", "one", "other"], "is_cover": ["thing", "curve"], "all_covers": ["curve"],
         "lowest": ["curve"], "highest": ["curve"],
     },
+    "curvefaces.turns": {
+        "halves": ["curve", "knot"], "turned_up": ["curve", "cover", "knot"], "turned_down": ["curve", "cover", "knot"],
+        "ups": ["curve", "cover"], "downs": ["curve", "cover"], "way_up": ["curve", "cover"],
+        "steps_between": ["curve", "one", "other"],
+    },
+    "curvefaces.triangles": {
+        "is_cut": ["thing", "many"], "cuts_many": ["many"], "cut_at": ["many", "number"], "number_of": ["many", "cut"],
+        "ears": ["many", "cut"], "cut_by": ["numbers"],
+    },
+    "curvefaces.moved": {
+        "turned_about": ["curve", "lot"], "moved_on": ["curve", "lot"], "named": ["curve", "lot", "order"],
+        "does_keep": ["thing", "curve"], "keepers": ["curve"], "at_corner": ["curve", "corner"],
+    },
+    "curvefaces.desk": {"Desk": []},
 }
+
+LOW = ((0, 1, 2), (0, 2, 3), (0, 3, 4))
+HIGH = ((0, 1, 4), (1, 2, 4), (2, 3, 4))
+
+
+def said(line):
+    """What a new desk answers."""
+    return Desk().say(line)
+
 
 CALLS = [
     (is_curve, [(6, 3)]), (is_lot, [(0, 1), (6, 3)]), (is_pane, [(0, 1, 2), (6, 3)]), (is_face, [(0, 1), (6, 3)]),
@@ -48,12 +75,23 @@ CALLS = [
     (is_low, [(6, 3), (0, 1, 2)]), (low_panes, [(6, 3)]), (high_panes, [(6, 3)]), (sides_many, [6, 3]),
     (do_cross, [(5, 2), (0, 1, 3), (0, 2, 4)]), (is_cover, [((0, 1, 2), (0, 2, 3)), (4, 2)]), (all_covers, [(5, 2)]),
     (lowest, [(5, 2)]), (highest, [(5, 2)]),
+    (halves, [(5, 2), (0, 1, 2, 3)]), (turned_up, [(5, 2), LOW, (0, 1, 2, 3)]),
+    (turned_down, [(5, 2), HIGH, (1, 2, 3, 4)]), (ups, [(5, 2), LOW]), (downs, [(5, 2), HIGH]), (way_up, [(5, 2), LOW]),
+    (steps_between, [(5, 2), LOW, HIGH]),
+    (is_cut, [LOW, 5]), (cuts_many, [5]), (cut_at, [5, 3]), (number_of, [5, LOW]), (ears, [5, LOW]),
+    (cut_by, [(3, 1, 2, 2, 1)]),
+    (turned_about, [(6, 3), (0, 1)]), (moved_on, [(6, 3), (0, 5)]), (named, [(3, 1), (0, 1), (1, 2, 0)]),
+    (does_keep, [(2, 1, 0), (3, 1)]), (keepers, [(4, 2)]), (at_corner, [(6, 3), 2]),
+    (said, ["curve 5 2"]), (said, ["told"]), (said, ["face 0"]),
 ]
 
 LISTS = [
     (blocks, [(6, 3), (0, 2, 3)]), (panes, [(6, 3)]), (panes_at, [(6, 3), (0,)]), (panes_at, [(6, 3), (1, 3)]),
     (faces, [(6, 3), 0]), (faces, [(6, 3), 2]), (faces, [(6, 3), 3]), (missing, [(6, 3)]), (low_panes, [(6, 3)]),
     (high_panes, [(6, 3)]), (all_covers, [(5, 2)]), (all_covers, [(3, 2)]),
+    (ups, [(5, 2), LOW]), (downs, [(5, 2), LOW]), (downs, [(5, 2), HIGH]), (way_up, [(5, 2), LOW]),
+    (way_up, [(5, 2), HIGH]),
+    (keepers, [(4, 2)]), (at_corner, [(6, 3), 2]), (at_corner, [(6, 1), 2]),
 ]
 
 
@@ -66,6 +104,18 @@ class InterfaceTest(unittest.TestCase):
                 function = getattr(module, name)
                 self.assertEqual(file, function.__module__)
                 self.assertEqual(arguments, list(inspect.signature(function).parameters))
+
+    def test_the_method_of_a_desk(self):
+        self.assertIn("say", vars(Desk))
+        self.assertEqual(["self", "line"], list(inspect.signature(Desk.say).parameters))
+
+    def test_each_is_defined_in_its_file(self):
+        for file, functions in INTERFACE.items():
+            with open(importlib.import_module(file).__file__, encoding="ascii") as text:
+                defined = [node.name for node in ast.parse(text.read()).body
+                           if isinstance(node, (ast.FunctionDef, ast.ClassDef))]
+            for name in functions:
+                self.assertEqual(1, defined.count(name), (file, name))
 
 
 class NothingIsChangedTest(unittest.TestCase):
@@ -109,6 +159,11 @@ class NothingIsChangedTest(unittest.TestCase):
         low_panes((6, 3)).clear()
         high_panes((6, 3)).clear()
         all_covers((5, 2)).clear()
+        ups((5, 2), LOW).clear()
+        downs((5, 2), HIGH).clear()
+        way_up((5, 2), LOW).clear()
+        keepers((4, 2)).clear()
+        at_corner((6, 3), 2).clear()
         self.assertEqual(due, [repr(function(*arguments)) for function, arguments in CALLS])
 
     def test_two_told_lists_held_at_once_have_nothing_in_common(self):

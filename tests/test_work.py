@@ -13,9 +13,12 @@ from curvefaces.counts import faces
 from curvefaces.covers import all_covers, do_cross, highest, is_cover, lowest
 from curvefaces.curves import is_face, is_pane, odd_inner
 from curvefaces.most import missing, reach
+from curvefaces.moved import at_corner, does_keep, keepers, moved_on, named, turned_about
 from curvefaces.panes import beyond, first_pane, panes, panes_at
 from curvefaces.sides import high_panes, is_low, low_panes
 from curvefaces.texts import read, show
+from curvefaces.triangles import cut_at, cut_by, cuts_many, ears, is_cut, number_of
+from curvefaces.turns import downs, halves, steps_between, turned_down, turned_up, ups, way_up
 from tests.support import CURVES, SMALL_CURVES, all_lots, plain_faces, plain_panes
 
 FOLDER = os.path.dirname(os.path.abspath(curvefaces.__file__))
@@ -85,6 +88,39 @@ class WorkTest(unittest.TestCase):
                 self.check_asked(function, curve)
             for cover in all_covers(curve):
                 self.check_asked(is_cover, cover, curve)
+
+    def test_turns(self):
+        for curve in SMALL_CURVES:
+            every = all_covers(curve)
+            for cover in [every[0], every[len(every) // 2], every[-1]]:
+                for function in [ups, downs, way_up]:
+                    self.check_asked(function, curve, cover)
+                self.check_asked(steps_between, curve, cover, every[-1])
+                for knot in ups(curve, cover):
+                    self.check_asked(halves, curve, knot)
+                    self.check_asked(turned_up, curve, cover, knot)
+                for knot in downs(curve, cover):
+                    self.check_asked(turned_down, curve, cover, knot)
+
+    def test_moved(self):
+        for curve in CURVES:
+            order = tuple(range(curve[0]))
+            self.check_asked(turned_about, curve, order)
+            self.check_asked(moved_on, curve, order)
+            self.check_asked(named, curve, order, order)
+            self.check_asked(does_keep, order, curve)
+            self.check_asked(at_corner, curve, 0)
+            if curve[0] <= 6:
+                self.check_asked(keepers, curve)
+
+    def test_triangles_of_thirty_corners_are_not_sought_among_all_cuts(self):
+        # There are some 2.6 * 10 ** 14 cuts; each triangle is found by going through thirty corners at most.
+        for number in [0, 10 ** 7, 10 ** 14, cuts_many(30) // 2, cuts_many(30) - 1]:
+            cut = cut_at(30, number)
+            for function, arguments in [(cut_at, [30, number]), (number_of, [30, cut]), (is_cut, [cut, 30]),
+                                        (ears, [30, cut]), (cut_by, [ears(30, cut)]), (cuts_many, [100])]:
+                names = names_called(function, *arguments)
+                self.assertLessEqual(len(names), 10000, function.__name__)
 
     def check_asked(self, function, *arguments):
         names = names_called(function, *arguments)
